@@ -1,0 +1,50 @@
+"""Maps and words that several tests walk through, and slow plain ways to reckon the same things."""
+
+from itertools import combinations, product
+
+
+def all_words(colours, most):
+    """All words of these colours with at most so many, the one without colours first."""
+    return ["".join(signs) for many in range(most + 1) for signs in product(colours, repeat=many)]
+
+
+def all_maps(many, colours):
+    """All maps of so many rooms with streets of these colours."""
+    streets = list(product(range(many), colours, range(many)))
+    for number in range(len(streets) + 1):
+        for some in combinations(streets, number):
+            yield (many, some)
+
+
+def some_maps(many, colours, number, state=1):
+    """So many maps, the same ones each time: a plain row of numbers picks the streets."""
+    streets = list(product(range(many), colours, range(many)))
+    for turn in range(number):
+        picked = []
+        for street in streets:
+            state = (state * 1103515245 + 12345) % 2147483648
+            if (state >> 16) % many < 1 + turn % 2:
+                picked.append(street)
+        yield (many, tuple(picked))
+
+
+def all_walks(chart, word):
+    """All walks of a word on a map, rising."""
+    many, streets = chart
+    walks = [(room,) for room in range(many)]
+    for colour in word:
+        walks = [walk + (end,) for walk in walks for begin, seen, end in streets
+                 if begin == walk[-1] and seen == colour]
+    return sorted(walks)
+
+
+def all_zigzags(board, word, most):
+    """All zigzags of a word with at most so many places: by how many they have, then as tuples."""
+    def joined(one, other):
+        return one != other and word[min(one, other):max(one, other)] in board
+    found = []
+    rows = [(0,)]
+    for number in range(most):
+        found += [row for row in rows if row[-1] == len(word)]
+        rows = [row + (place,) for row in rows for place in range(len(word) + 1) if joined(row[-1], place)]
+    return found

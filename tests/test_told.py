@@ -1,0 +1,45 @@
+"""What holds of all that is told: point 2."""
+
+import copy
+import unittest
+
+from walktold.maps import look_map
+from walktold.tables import board_tables, every, over, table
+from walktold.texts import read_board, read_map, show_board, show_map
+from walktold.words import is_word, look_board
+
+CHART = (3, ((0, "a", 1), (0, "b", 0), (1, "a", 2), (1, "b", 1), (2, "a", 0)))
+BOARD = ("ab", "b", "ba")
+TABLES = board_tables(CHART, BOARD)
+CALLS = [
+    (is_word, ("abc",)), (is_word, ("aB",)), (look_board, (BOARD,)), (look_map, (CHART,)),
+    (show_board, (BOARD,)), (read_board, ("ab b ba",)), (read_board, ("-",)),
+    (show_map, (CHART,)), (read_map, (show_map(CHART),)),
+    (table, (CHART, "abba")), (table, (CHART, "")), (over, TABLES[:2]), (every, (3,) + TABLES[1:]),
+    (board_tables, (CHART, BOARD)), (board_tables, (CHART, ())),
+]
+
+
+def is_plain(thing):
+    """Whether a thing is made of tuples, texts, whole numbers, truths, None."""
+    if type(thing) is tuple:
+        return all(is_plain(part) for part in thing)
+    return thing is None or type(thing) in (str, int, bool)
+
+
+class Told(unittest.TestCase):
+    def test_made_of_plain_things(self):
+        for asked, things in CALLS:
+            with self.subTest(asked=asked.__name__):
+                self.assertTrue(is_plain(asked(*things)))
+
+    def test_asked_again_whatever_was_asked_between(self):
+        first = [asked(*things) for asked, things in CALLS]
+        backward = [asked(*things) for asked, things in reversed(CALLS)]
+        self.assertEqual(first, backward[::-1])
+
+    def test_nothing_that_is_handed_in_is_changed(self):
+        for asked, things in CALLS:
+            before = copy.deepcopy(things)
+            asked(*things)
+            self.assertEqual(things, before)

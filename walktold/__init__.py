@@ -1,0 +1,1 @@
+"""Walktold: words of coloured streets worked out from other words' tables alone."""
