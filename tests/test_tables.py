@@ -51,6 +51,8 @@ class Tables(unittest.TestCase):
     def test_told_rising(self):
         chart = (3, ((0, "a", 1), (0, "a", 2), (1, "b", 2), (2, "b", 0), (2, "b", 1)))
         self.assertEqual(table(chart, "ab"), ((0, 0), (0, 1), (0, 2)))
+        wide = (17, ((0, "a", 3), (0, "a", 5), (3, "b", 8), (3, "b", 16), (5, "b", 1), (5, "b", 9)))
+        self.assertEqual(table(wide, "ab"), ((0, 1), (0, 8), (0, 9), (0, 16)))
 
     def test_more_walks_than_can_be_tried(self):
         full = (8, tuple((x, "a", y) for x in range(8) for y in range(8)))

@@ -4,20 +4,33 @@ import copy
 import unittest
 
 from walktold.maps import look_map
+from walktold.places import lands, stretches
+from walktold.steps import let_by, steps_of, walked
+from walktold.steptexts import read_steps, show_steps
 from walktold.tables import board_tables, every, over, table
 from walktold.texts import read_board, read_map, show_board, show_map
+from walktold.walks import walk
 from walktold.words import is_word, look_board
+from walktold.workings import worked_out
+from walktold.zigzags import is_zigzag, zigzag
 
 CHART = (3, ((0, "a", 1), (0, "b", 0), (1, "a", 2), (1, "b", 1), (2, "a", 0)))
 BOARD = ("ab", "b", "ba")
 TABLES = board_tables(CHART, BOARD)
+PLACES = zigzag(BOARD, "aba")
+STEPS = steps_of(BOARD, "aba", PLACES)
 CALLS = [
     (is_word, ("abc",)), (is_word, ("aB",)), (look_board, (BOARD,)), (look_map, (CHART,)),
     (show_board, (BOARD,)), (read_board, ("ab b ba",)), (read_board, ("-",)),
     (show_map, (CHART,)), (read_map, (show_map(CHART),)),
     (table, (CHART, "abba")), (table, (CHART, "")), (over, TABLES[:2]), (every, (3,) + TABLES[1:]),
     (board_tables, (CHART, BOARD)), (board_tables, (CHART, ())),
+    (walk, (CHART, "abba", 0, 2)), (walk, (CHART, "a", 0, 0)), (stretches, (BOARD, "aba")), (lands, (BOARD, "aba")),
+    (zigzag, (BOARD, "aba")), (zigzag, (BOARD, "aa")), (is_zigzag, (BOARD, "aba", PLACES)),
+    (steps_of, (BOARD, "aba", PLACES)), (let_by, (BOARD, "aba", STEPS)), (walked, (STEPS,)),
+    (worked_out, (3, TABLES, STEPS)), (show_steps, (BOARD, STEPS)), (read_steps, (BOARD, "ab+ b- ba+")),
 ]
+LISTS = (stretches,)
 
 
 def is_plain(thing):
@@ -31,7 +44,17 @@ class Told(unittest.TestCase):
     def test_made_of_plain_things(self):
         for asked, things in CALLS:
             with self.subTest(asked=asked.__name__):
-                self.assertTrue(is_plain(asked(*things)))
+                told = asked(*things)
+                self.assertIs(type(told) is list, asked in LISTS)
+                self.assertTrue(is_plain(tuple(told) if asked in LISTS else told))
+
+    def test_lists_are_new_ones(self):
+        for asked, things in CALLS:
+            if asked in LISTS:
+                told = asked(*things)
+                before = list(told)
+                told.clear()
+                self.assertEqual(asked(*things), before)
 
     def test_asked_again_whatever_was_asked_between(self):
         first = [asked(*things) for asked, things in CALLS]
