@@ -48,3 +48,22 @@ def all_zigzags(board, word, most):
         found += [row for row in rows if row[-1] == len(word)]
         rows = [row + (place,) for row in rows for place in range(len(word) + 1) if joined(row[-1], place)]
     return found
+
+
+def is_least(colours, reader):
+    """Whether a reader's rows are numbered as they are come to and no two of them take alike."""
+    come = [0]
+    for row in come:
+        come += [go for at, go in enumerate(reader[row][1]) if go not in come + list(reader[row][1][:at])]
+    if come != list(range(len(reader))):
+        return False
+    tails = [tuple(mark for mark, goes in reader)]
+    for number in range(len(reader)):
+        tails += [tuple(tail[goes[at]] for mark, goes in reader) for tail in tails for at in range(len(colours))]
+        tails = sorted(set(tails))
+    return len(set(zip(*tails))) == len(reader)
+
+
+def is_chain(board, word):
+    """Whether a word is some words of a board one behind the other."""
+    return word == "" or any(word.startswith(known) and is_chain(board, word[len(known):]) for known in board)

@@ -3,13 +3,19 @@
 import copy
 import unittest
 
+from walktold.least import least_reader
 from walktold.maps import look_map
+from walktold.papers import paper, shows
 from walktold.places import lands, stretches
+from walktold.readers import reader
+from walktold.reading import is_reader, taken_words, takes
 from walktold.steps import let_by, steps_of, walked
 from walktold.steptexts import read_steps, show_steps
 from walktold.tables import board_tables, every, over, table
 from walktold.texts import read_board, read_map, show_board, show_map
+from walktold.twins import part, twins
 from walktold.walks import walk
+from walktold.whole import all_from, first_beyond, first_open, first_unlike
 from walktold.words import is_word, look_board
 from walktold.workings import worked_out
 from walktold.zigzags import is_zigzag, zigzag
@@ -19,6 +25,8 @@ BOARD = ("ab", "b", "ba")
 TABLES = board_tables(CHART, BOARD)
 PLACES = zigzag(BOARD, "aba")
 STEPS = steps_of(BOARD, "aba", PLACES)
+TWINS = twins(BOARD, "aa")
+ROWS = reader(BOARD, "ab")
 CALLS = [
     (is_word, ("abc",)), (is_word, ("aB",)), (look_board, (BOARD,)), (look_map, (CHART,)),
     (show_board, (BOARD,)), (read_board, ("ab b ba",)), (read_board, ("-",)),
@@ -29,8 +37,15 @@ CALLS = [
     (zigzag, (BOARD, "aba")), (zigzag, (BOARD, "aa")), (is_zigzag, (BOARD, "aba", PLACES)),
     (steps_of, (BOARD, "aba", PLACES)), (let_by, (BOARD, "aba", STEPS)), (walked, (STEPS,)),
     (worked_out, (3, TABLES, STEPS)), (show_steps, (BOARD, STEPS)), (read_steps, (BOARD, "ab+ b- ba+")),
+    (twins, (BOARD, "aa")), (part, (BOARD, "aa") + TWINS), (paper, (BOARD, "aba")), (paper, (BOARD, "aa")),
+    (shows, (BOARD, "aba", ("steps", STEPS))), (shows, (BOARD, "aa", ("maps",) + TWINS)),
+    (is_reader, ("ab", ROWS)), (takes, ("ab", ROWS, "aba")), (taken_words, ("ab", ROWS, 4)),
+    (least_reader, ("ab", ROWS)), (reader, (BOARD, "ab")), (reader, (BOARD, "abc", 5)), (reader, ((), "a", 2)),
+    (first_open, (BOARD, "ab")), (first_open, (BOARD, "b")), (first_beyond, (BOARD, "ab")),
+    (first_unlike, (BOARD, (), "ab")), (first_unlike, ((), BOARD, "ab", 4)), (all_from, (BOARD, "ab")),
+    (all_from, (("aaa", "aa"), "a")),
 ]
-LISTS = (stretches,)
+LISTS = (stretches, taken_words)
 
 
 def is_plain(thing):

@@ -29,6 +29,11 @@ def lands(board, word):
     """Tell for each place of a word the least place of its land."""
     land = list(range(len(word) + 1))
     for i, j, k in stretches(board, word):
-        low, high = min(land[i], land[j]), max(land[i], land[j])
-        land = [low if least == high else least for least in land]
+        land = land_joined(land, i, j)
     return tuple(land)
+
+
+def land_joined(land, i, j):
+    """Tell the list of lands, one for each place, when those of places i and j are one, called by the lesser number."""
+    low, high = min(land[i], land[j]), max(land[i], land[j])
+    return [low if one == high else one for one in land]
