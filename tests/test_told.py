@@ -3,16 +3,21 @@
 import copy
 import unittest
 
+from walktold.boards import are_same, fixes, joined, lean
+from walktold.counts import how_many
+from walktold.laying import laid_in
 from walktold.least import least_reader
 from walktold.maps import look_map
 from walktold.papers import paper, shows
 from walktold.places import lands, stretches
 from walktold.readers import reader
 from walktold.reading import is_reader, taken_words, takes
+from walktold.spreading import board_spread, gathered, word_spread, zigzag_spread
 from walktold.steps import let_by, steps_of, walked
 from walktold.steptexts import read_steps, show_steps
 from walktold.tables import board_tables, every, over, table
 from walktold.texts import read_board, read_map, show_board, show_map
+from walktold.turning import board_turned, map_turned, word_turned, zigzag_turned
 from walktold.twins import part, twins
 from walktold.walks import walk
 from walktold.whole import all_from, first_beyond, first_open, first_unlike
@@ -27,6 +32,7 @@ PLACES = zigzag(BOARD, "aba")
 STEPS = steps_of(BOARD, "aba", PLACES)
 TWINS = twins(BOARD, "aa")
 ROWS = reader(BOARD, "ab")
+PAIRS = (("a", "ab"), ("c", "a"))
 CALLS = [
     (is_word, ("abc",)), (is_word, ("aB",)), (look_board, (BOARD,)), (look_map, (CHART,)),
     (show_board, (BOARD,)), (read_board, ("ab b ba",)), (read_board, ("-",)),
@@ -43,7 +49,12 @@ CALLS = [
     (least_reader, ("ab", ROWS)), (reader, (BOARD, "ab")), (reader, (BOARD, "abc", 5)), (reader, ((), "a", 2)),
     (first_open, (BOARD, "ab")), (first_open, (BOARD, "b")), (first_beyond, (BOARD, "ab")),
     (first_unlike, (BOARD, (), "ab")), (first_unlike, ((), BOARD, "ab", 4)), (all_from, (BOARD, "ab")),
-    (all_from, (("aaa", "aa"), "a")),
+    (all_from, (("aaa", "aa"), "a")), (how_many, ("ab", ROWS, 30)), (how_many, ("ab", ROWS, 0)),
+    (fixes, (BOARD, ("aba", "bb"))), (fixes, (BOARD, ("aba", "aa"))), (are_same, (BOARD, ("ba", "b", "ab"))),
+    (lean, (BOARD + ("aba",),)), (joined, (BOARD, ("a", "b"))), (laid_in, ("aba", PLACES, BOARD, ("a", "b"))),
+    (word_turned, ("aab",)), (board_turned, (BOARD,)), (map_turned, (CHART,)), (zigzag_turned, ("aba", PLACES)),
+    (word_spread, (PAIRS, "abc")), (board_spread, (PAIRS, BOARD)), (zigzag_spread, (PAIRS, "aba", PLACES)),
+    (gathered, (PAIRS, CHART)),
 ]
 LISTS = (stretches, taken_words)
 
