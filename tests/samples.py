@@ -67,3 +67,31 @@ def is_least(colours, reader):
 def is_chain(board, word):
     """Whether a word is some words of a board one behind the other."""
     return word == "" or any(word.startswith(known) and is_chain(board, word[len(known):]) for known in board)
+
+
+def two_way_stands(two, word, begin):
+    """All (place, row) to which goings of a two-way reader lead on a word's places from one such pair, itself too."""
+    found = {begin}
+    while True:
+        more = set(found)
+        for place, row in found:
+            for way, colour, other in two[row][1]:
+                if way == 1 and place < len(word) and word[place] == colour:
+                    more.add((place + 1, other))
+                if way == -1 and place > 0 and word[place - 1] == colour:
+                    more.add((place - 1, other))
+        if more == found:
+            return found
+        found = more
+
+
+def some_two_way(many, colours, goings, number, state=1):
+    """So many two-way readers of at most so many rows and goings in each, the same ones each time."""
+    def picked(below):
+        nonlocal state
+        state = (state * 1103515245 + 12345) % 2147483648
+        return (state >> 16) % below
+    for turn in range(number):
+        rows = 1 + picked(many)
+        yield tuple((picked(3) == 0, tuple((1 - 2 * picked(2), colours[picked(len(colours))], picked(rows))
+                                           for go in range(picked(goings + 1)))) for row in range(rows))

@@ -3,11 +3,16 @@
 import copy
 import unittest
 
+from walktold.beside import maps_beside
 from walktold.boards import are_same, fixes, joined, lean
 from walktold.counts import how_many
+from walktold.desk import Desk
+from walktold.ends import ends_of
+from walktold.helping import helping
 from walktold.laying import laid_in
 from walktold.least import least_reader
 from walktold.maps import look_map
+from walktold.needs import enough, far, needed
 from walktold.papers import paper, shows
 from walktold.places import lands, stretches
 from walktold.readers import reader
@@ -19,6 +24,7 @@ from walktold.tables import board_tables, every, over, table
 from walktold.texts import read_board, read_map, show_board, show_map
 from walktold.turning import board_turned, map_turned, word_turned, zigzag_turned
 from walktold.twins import part, twins
+from walktold.twoway import is_two_way, two_takes, two_way_of
 from walktold.walks import walk
 from walktold.whole import all_from, first_beyond, first_open, first_unlike
 from walktold.words import is_word, look_board
@@ -32,6 +38,7 @@ PLACES = zigzag(BOARD, "aba")
 STEPS = steps_of(BOARD, "aba", PLACES)
 TWINS = twins(BOARD, "aa")
 ROWS = reader(BOARD, "ab")
+TWO = two_way_of(BOARD, "ab")
 PAIRS = (("a", "ab"), ("c", "a"))
 CALLS = [
     (is_word, ("abc",)), (is_word, ("aB",)), (look_board, (BOARD,)), (look_map, (CHART,)),
@@ -54,7 +61,10 @@ CALLS = [
     (lean, (BOARD + ("aba",),)), (joined, (BOARD, ("a", "b"))), (laid_in, ("aba", PLACES, BOARD, ("a", "b"))),
     (word_turned, ("aab",)), (board_turned, (BOARD,)), (map_turned, (CHART,)), (zigzag_turned, ("aba", PLACES)),
     (word_spread, (PAIRS, "abc")), (board_spread, (PAIRS, BOARD)), (zigzag_spread, (PAIRS, "aba", PLACES)),
-    (gathered, (PAIRS, CHART)),
+    (gathered, (PAIRS, CHART)), (maps_beside, (CHART, CHART)), (needed, (BOARD, "aba")), (enough, (BOARD, "aba")),
+    (enough, (BOARD, "aa")), (far, (BOARD, "abaa")), (helping, (BOARD, "aa")), (helping, (BOARD, "aba")),
+    (is_two_way, ("ab", TWO)), (two_takes, ("ab", TWO, "aba")), (two_way_of, (BOARD, "ab")),
+    (ends_of, ("ab", TWO, "aba")), (ends_of, ("ab", TWO, "")), (Desk().say, ("fixes ab",)), (Desk().say, ("board",)),
 ]
 LISTS = (stretches, taken_words)
 

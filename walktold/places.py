@@ -27,13 +27,23 @@ def neighbours(board, word):
 
 def lands(board, word):
     """Tell for each place of a word the least place of its land."""
-    land = list(range(len(word) + 1))
-    for i, j, k in stretches(board, word):
-        land = land_joined(land, i, j)
-    return tuple(land)
+    return all_joined(tuple(range(len(word) + 1)), [(i, j) for i, j, k in stretches(board, word)])
+
+
+def all_joined(land, ends):
+    """Tell the tuple of lands, one for each place, when those of each two ends (i, j) are one."""
+    told = list(land)
+    for i, j in ends:
+        told = land_joined(told, i, j)
+    return tuple(told)
 
 
 def land_joined(land, i, j):
     """Tell the list of lands, one for each place, when those of places i and j are one, called by the lesser number."""
     low, high = min(land[i], land[j]), max(land[i], land[j])
     return [low if one == high else one for one in land]
+
+
+def is_fixed(board, word):
+    """Tell whether a board fixes a word: whether its last place lies in the land of place 0."""
+    return lands(board, word)[-1] == 0
