@@ -173,7 +173,8 @@ class Readers(DeskCase):
         for row in ("reader", "first", "count 2"):
             desk.say(row + " abc")
             self.refused(desk, *[row + " " + colours for colours in
-                                 ("ba", "aa", "aba", "abb", "cab", "abcd", "", "A", "aB", "1", "-", "a b", "a,b", "a\n")])
+                                 ("ba", "aa", "aba", "abb", "cab", "abcd", "", "A", "aB", "1", "-", "a b", "a,b",
+                                  "a\n")])
             self.refused(desk, row, row + "  a", row + " a ")
 
     def test_five_words_up(self):
@@ -221,9 +222,9 @@ class Readers(DeskCase):
 
 class Rows(DeskCase):
     def test_rows_of_no_known_form(self):
-        self.refused(desk_with("a", "aa"), "", " ", "\n", "a", "fix a", "Put b", "PUT b", "Board", "LEAN", "boards", "lean a",
-                     "board a", "lean ", " lean", " board", "board ", "board\n", "\nboard", "board\nlean", "put b c",
-                     "put  b", " put b", "put b ", "take a aa", "take  a", " take a", "take a ", "reader a b",
+        self.refused(desk_with("a", "aa"), "", " ", "\n", "a", "fix a", "Put b", "PUT b", "Board", "LEAN", "boards",
+                     "lean a", "board a", "lean ", " lean", " board", "board ", "board\n", "\nboard", "board\nlean",
+                     "put b c", "put  b", " put b", "put b ", "take a aa", "take  a", " take a", "take a ", "reader a b",
                      "first a b", "count 1 a b", "put,b", "put\nb", "put", "take", "fixes", "reader", "first", "count",
                      "many", "yes a+", "up 1", "say board", "-", "~" * 600)
 

@@ -62,7 +62,8 @@ class Helping(unittest.TestCase):
                     self.assertIsNone(helping(board, word))
                     continue
                 # One colour more than those of the word: what doesn't stand in it doesn't help.
-                tried = [one for one in all_words("abc", len(word))[1:] if zigzag(joined(board, (one,)), word) is not None]
+                tried = [one for one in all_words("abc", len(word))[1:]
+                         if zigzag(joined(board, (one,)), word) is not None]
                 self.assertEqual(helping(board, word), tried[0], (board, word))
 
     def test_put_up_it_helps(self):

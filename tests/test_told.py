@@ -8,18 +8,24 @@ from walktold.boards import are_same, fixes, joined, lean
 from walktold.counts import how_many
 from walktold.desk import Desk
 from walktold.ends import ends_of
+from walktold.freemap import free_map
 from walktold.helping import helping
+from walktold.joining import by_both, by_either, by_none, turned_reader
 from walktold.laying import laid_in
 from walktold.least import least_reader
+from walktold.many import how_many_zigzags, zigzags_to
 from walktold.maps import look_map
 from walktold.needs import enough, far, needed
+from walktold.oneway import one_way
 from walktold.papers import paper, shows
 from walktold.places import lands, stretches
+from walktold.prices import bought, cheapest
 from walktold.readers import reader
 from walktold.reading import is_reader, taken_words, takes
 from walktold.spreading import board_spread, gathered, word_spread, zigzag_spread
 from walktold.steps import let_by, steps_of, walked
 from walktold.steptexts import read_steps, show_steps
+from walktold.sure import how_sure, sure
 from walktold.tables import board_tables, every, over, table
 from walktold.texts import read_board, read_map, show_board, show_map
 from walktold.turning import board_turned, map_turned, word_turned, zigzag_turned
@@ -65,8 +71,15 @@ CALLS = [
     (enough, (BOARD, "aa")), (far, (BOARD, "abaa")), (helping, (BOARD, "aa")), (helping, (BOARD, "aba")),
     (is_two_way, ("ab", TWO)), (two_takes, ("ab", TWO, "aba")), (two_way_of, (BOARD, "ab")),
     (ends_of, ("ab", TWO, "aba")), (ends_of, ("ab", TWO, "")), (Desk().say, ("fixes ab",)), (Desk().say, ("board",)),
+    (one_way, ("ab", TWO)), (one_way, ("ab", TWO, 4)), (how_many_zigzags, (BOARD, "aba", 14)),
+    (zigzags_to, (BOARD, "aba", 6)), (zigzags_to, (BOARD, "aa", 6)), (cheapest, (BOARD, "aba", (3, 0, 1))),
+    (cheapest, (BOARD, "aa", (3, 0, 1))), (bought, (BOARD, "aba", (3, 0, 1))), (bought, (BOARD, "aa", (3, 0, 1))),
+    (free_map, (3, BOARD, TABLES)), (sure, (3, BOARD, TABLES, "abb")), (sure, (3, BOARD, TABLES, "aa")),
+    (how_sure, (3, BOARD, TABLES, "abb", 0, 1)), (how_sure, (3, BOARD, TABLES, "aa", 0, 1)),
+    (by_both, ("ab", ROWS, ROWS)), (by_either, ("ab", ROWS, ROWS, 4)), (by_none, ("ab", ROWS)),
+    (turned_reader, ("ab", ROWS)),
 ]
-LISTS = (stretches, taken_words)
+LISTS = (stretches, taken_words, zigzags_to)
 
 
 def is_plain(thing):

@@ -31,8 +31,8 @@ def goings(two, way, colour):
     return tuple(sorted({
         (row, other)
         for row, (mark, goes) in enumerate(two)
-        for one_way, seen, other in goes
-        if one_way == way and seen == colour
+        for gone, seen, other in goes
+        if gone == way and seen == colour
     }))
 
 

@@ -1,7 +1,6 @@
 """The reader of a board: it takes just the words that the board fixes."""
 
-from walktold.errors import TooMany
-from walktold.least import least_reader
+from walktold.least import least_within
 from walktold.numbering import numbered
 from walktold.places import land_joined
 
@@ -13,10 +12,7 @@ def reader(board, colours, most=60):
     def row_of(stand):
         return (stand[1][-1] == 0, [read_on(board, begun, stand, colour) for colour in colours])
 
-    rows = least_reader(colours, numbered(("", (0,)), row_of))
-    if len(rows) > most:
-        raise TooMany(most)
-    return rows
+    return least_within(colours, numbered(("", (0,)), row_of), most)
 
 
 def begun_words(board):

@@ -1,6 +1,6 @@
 """What a board fixes at all, of the words of some colours."""
 
-from walktold.numbering import numbered
+from walktold.numbering import numbered, paired
 from walktold.readers import reader
 
 
@@ -46,12 +46,7 @@ def first_taken(colours, rows):
 
 def first_between(colours, one, other):
     """Tell the first word, in order, that the one reader takes and the other doesn't, or None."""
-    def row_of(stand):
-        one_mark, one_goes = one[stand[0]]
-        other_mark, other_goes = other[stand[1]]
-        return (one_mark and not other_mark, list(zip(one_goes, other_goes)))
-
-    return first_taken(colours, numbered((0, 0), row_of))
+    return first_taken(colours, paired(one, other, lambda one_mark, other_mark: one_mark and not other_mark))
 
 
 def chain_reader(board, colours):
