@@ -85,13 +85,27 @@ def two_way_stands(two, word, begin):
         found = more
 
 
-def some_two_way(many, colours, goings, number, state=1):
-    """So many two-way readers of at most so many rows and goings in each, the same ones each time."""
+def picker(state):
+    """A def that picks a number below another one, by a plain row of numbers."""
     def picked(below):
         nonlocal state
         state = (state * 1103515245 + 12345) % 2147483648
         return (state >> 16) % below
+    return picked
+
+
+def some_two_way(many, colours, goings, number, state=1):
+    """So many two-way readers of at most so many rows and goings in each, the same ones each time."""
+    picked = picker(state)
     for turn in range(number):
         rows = 1 + picked(many)
         yield tuple((picked(3) == 0, tuple((1 - 2 * picked(2), colours[picked(len(colours))], picked(rows))
                                            for go in range(picked(goings + 1)))) for row in range(rows))
+
+
+def some_readers(colours, many, number, state=1):
+    """So many readers of at most so many rows, the same ones each time."""
+    picked = picker(state)
+    for turn in range(number):
+        rows = 1 + picked(many)
+        yield tuple((picked(3) == 0, tuple(picked(rows) for colour in colours)) for row in range(rows))

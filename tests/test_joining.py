@@ -3,7 +3,7 @@
 import unittest
 from itertools import combinations
 
-from tests.samples import all_words, is_least
+from tests.samples import all_words, is_least, some_readers
 from walktold.boards import joined
 from walktold.errors import TooMany
 from walktold.joining import by_both, by_either, by_none, turned_reader
@@ -21,15 +21,9 @@ ALL = ((True, (0, 0)),)
 NOTHING = ((False, (0, 0)),)
 
 
-def some_readers(colours, many, number, state=1):
-    """So many readers of at most so many rows, the same ones each time."""
-    def picked(below):
-        nonlocal state
-        state = (state * 1103515245 + 12345) % 2147483648
-        return (state >> 16) % below
-    for turn in range(number):
-        rows = 1 + picked(many)
-        yield tuple((picked(3) == 0, tuple(picked(rows) for colour in colours)) for row in range(rows))
+def ring(many):
+    """A reader of the words of `a` whose number of colours so many part evenly."""
+    return tuple((row == 0, ((row + 1) % many,)) for row in range(many))
 
 
 def behind(many):
@@ -160,8 +154,6 @@ class Most(unittest.TestCase):
                     self.refused(len(told) - 1, asked, "ab", one, other, len(told) - 1)
 
     def test_sixty_if_nothing_is_said(self):
-        def ring(many):
-            return tuple((row == 0, ((row + 1) % many,)) for row in range(many))
         self.assertEqual(len(by_both("a", ring(6), ring(20))), 60)
         self.assertEqual(len(by_both("a", ring(4), ring(15))), 60)
         self.refused(60, by_both, "a", ring(7), ring(9))
@@ -174,8 +166,6 @@ class Most(unittest.TestCase):
             self.assertEqual(len(asked("a", ring(61), 61)), 61)
 
     def test_great_readers(self):
-        def ring(many):
-            return tuple((row == 0, ((row + 1) % many,)) for row in range(many))
         self.assertEqual(len(by_both("a", ring(60), ring(30))), 60)
         for asked in (by_both, by_either):
             self.refused(60, asked, "a", ring(59), ring(60))
